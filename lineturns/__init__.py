@@ -1,0 +1,1 @@
+"""Lineturns: one of any number of askers gets the turn."""

@@ -1,13 +1,13 @@
 import copy
 import inspect
 import unittest
-from itertools import combinations, product
+from itertools import product
 
 from lineturns.errors import InvalidRound
 from lineturns.rounds import Played, play
 from lineturns.rows import Row
 from lineturns.rules import Rule
-from samples import FAIR, FIXED, MOVES, PICKS, any_values, region, slow_play
+from samples import FAIR, FIXED, MOVES, PICKS, all_rounds, any_values, region, slow_play
 
 # Regions of a line of five askers, for the pointer at home, at the first, a middle and the last asker.
 REGIONS = {
@@ -35,10 +35,6 @@ def play_pointed(pointer, asking, *lines):
     rule, rounds = pointed(pointer, *lines)
     played = play(rule, 5, rounds + [asking])
     return played.grants[-1], played.modes[-1], played.pointers[-1]
-
-
-def all_rounds(askers):
-    return [asking for many in range(askers + 1) for asking in combinations(range(askers), many)]
 
 
 def told(played):

@@ -62,6 +62,9 @@ GROWTHS = (
      "d all on b", (2, 1)),
     ("first a\na past stay c\na past on c\na all on d\nb past on a\nb all on a\nc past on d\nc all home b\n"
      "d keep on b\nd past on b\nd all on b", (2, 1)),
+    # There are ways round of several rates.
+    ("first a\na past on c\na all on b\nb keep stay c\nb past on c\nb all on b\nc keep stay d\nc past on b\n"
+     "c all home b\nd past on a\nd under on c\nd all on d", (2, 1)),
     # Rounds that leave the pointer where it is lead to one mode or another.
     ("first a\na past stay c\na past on b\na all stay b\nb under home a\nb at on c\nb all on c\nc at on d\n"
      "c all home b\nd past on a\nd all home d", (3, 1)),

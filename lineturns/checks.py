@@ -6,6 +6,11 @@ def is_whole(value):
     return isinstance(value, int) and not isinstance(value, bool)
 
 
+def is_below(value, bound):
+    """Whether a value is an integer from 0 on and below a bound."""
+    return is_whole(value) and 0 <= value < bound
+
+
 def is_sequence(value):
     """Whether a value is a list or a tuple."""
     return isinstance(value, (list, tuple))

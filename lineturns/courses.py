@@ -136,6 +136,30 @@ def rounds_to(course, state):
     return tuple(rounds[::-1])
 
 
+def states_behind(bounds, rounds):
+    """The states behind some rounds, each once."""
+    found = {}
+    for told in rounds:
+        for pointer in pointers_in(bounds, told.pointer):
+            found[(told.mode, pointer)] = True
+    return list(found)
+
+
+def states_behind_free(course, state):
+    """The states to which a round leads in which somebody asks."""
+    bounds, rounds = free_rounds(course.table, course.askers, state)
+    return states_behind(bounds, [told for told in rounds if told.asking])
+
+
+def states_behind_watched(course, watched, state, granted):
+    """The states to which a round leads in which the watched asker is granted, or else one in which it is not."""
+    mode, pointer = state
+    bounds = bounds_beside(course.askers, pointer, watched)
+    _, part, watched_part = SIDES[side_of(pointer, watched)]
+    rounds = course.table.played(mode, part, filled(bounds))
+    return states_behind(bounds, [told for told in rounds if (watched_part in told.granted) == granted])
+
+
 def vain_rounds_from(course, watched, state):
     """The bounds of the parts beside a watched asker, and rounds in which it asks in vain."""
     mode, pointer = state
@@ -146,7 +170,7 @@ def vain_rounds_from(course, watched, state):
 def states_behind_vain(course, watched, state):
     """The states to which a round leads in which the watched asker asks in vain."""
     bounds, rounds = vain_rounds_from(course, watched, state)
-    return [(told.mode, pointer) for told in rounds for pointer in pointers_in(bounds, told.pointer)]
+    return states_behind(bounds, rounds)
 
 
 def vain_round_between(vain, state, behind):

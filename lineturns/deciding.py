@@ -1,6 +1,6 @@
 """Whether a rule has faults for some number of askers, and rounds of the fewest askers that show them."""
 
-from lineturns.checks import is_whole
+from lineturns.checks import is_below, is_whole
 from lineturns.courses import Course, PartTable, Vain, free_rounds, round_of, rounds_along, rounds_to
 from lineturns.errors import InvalidFault
 from lineturns.parts import all_rounds
@@ -129,7 +129,7 @@ def is_ring_form(value):
     if not isinstance(value, tuple) or len(value) != 4:
         return False
     askers, asker, ahead, turn = value
-    if not is_whole(askers) or not is_whole(asker) or not 0 <= asker < askers:
+    if not is_whole(askers) or not is_below(asker, askers):
         return False
     return are_strict_rounds(ahead, askers) and are_strict_rounds(turn, askers) and len(turn) > 0
 

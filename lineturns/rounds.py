@@ -1,6 +1,6 @@
 """Rounds in which some askers ask, and what a rule does with them."""
 
-from lineturns.checks import is_sequence, is_whole
+from lineturns.checks import is_below, is_sequence
 from lineturns.errors import InvalidRound
 from lineturns.rows import in_region, moved
 
@@ -18,7 +18,7 @@ class Played:
 
 def play(rule, askers, rounds):
     """Play a row of rounds with a rule, from its first mode and the pointer at home."""
-    asked = ascending_rounds(askers, rounds)
+    asked = ascending_rounds(rounds, lambda asking: is_round(asking, askers))
     grants = []
     done = []
     modes = [rule.first]
@@ -33,23 +33,20 @@ def play(rule, askers, rounds):
     return Played(tuple(grants), tuple(done), tuple(modes), tuple(pointers), faults)
 
 
-def ascending_rounds(askers, rounds):
-    """The list of the rounds as ascending tuples, if a value is a sequence of rounds."""
+def ascending_rounds(rounds, is_right):
+    """The list of the rounds as ascending tuples, if a value is a sequence of rounds that are right."""
     if not is_sequence(rounds):
         raise InvalidRound(0)
     for at, asking in enumerate(rounds):
-        if not is_round(asking, askers):
+        if not is_right(asking):
             raise InvalidRound(at)
     return [tuple(sorted(asking)) for asking in rounds]
 
 
 def is_round(value, askers):
     """Whether a value is a round of so many askers."""
-    if not is_sequence(value):
+    if not is_sequence(value) or not all([is_below(asker, askers) for asker in value]):
         return False
-    for asker in value:
-        if not is_whole(asker) or not 0 <= asker < askers:
-            return False
     return len(set(value)) == len(value)
 
 

@@ -1,6 +1,6 @@
 """Rules: a first mode and rows."""
 
-from lineturns.checks import is_name, is_sequence, is_whole
+from lineturns.checks import is_below, is_name, is_sequence
 from lineturns.errors import InvalidRule, InvalidText, NoRow
 from lineturns.rounds import play
 from lineturns.rows import Row, read_row
@@ -35,7 +35,7 @@ class Rule:
 
     def without(self, at):
         """The rule without a row."""
-        if not is_number_in(self.rows, at):
+        if not is_below(at, len(self.rows)):
             raise NoRow(at)
         return Rule(self.first, (*self.rows[:at], *self.rows[at + 1:]))
 
@@ -51,7 +51,7 @@ class Rule:
         return len(self.rows)
 
     def __getitem__(self, at):
-        if not is_number_in(self.rows, at):
+        if not is_below(at, len(self.rows)):
             raise NoRow(at)
         return self.rows[at]
 
@@ -75,11 +75,6 @@ class Rule:
 def is_row_sequence(value):
     """Whether a value is a sequence of rows."""
     return is_sequence(value) and all([isinstance(thing, Row) for thing in value])
-
-
-def is_number_in(rows, at):
-    """Whether a value is the number of a row."""
-    return is_whole(at) and 0 <= at < len(rows)
 
 
 def modes_of(first, rows):

@@ -2,7 +2,9 @@
 
 from itertools import combinations
 
+from lineturns.desk import Desk
 from lineturns.errors import InvalidRow, NoRow
+from lineturns.line import Line
 from lineturns.rounds import play
 from lineturns.rows import Row
 from lineturns.rules import Rule
@@ -111,7 +113,8 @@ def other_values():
     return [
         None, True, False, 0, 1, 2, -1, 10 ** 30, -(10 ** 30), [], (), [0], (0,), [[0]], ((0,),), ["run"], ("run",),
         [None], [True], [[]], [()], deep(8), row, [row], (row, row), [row, "run"], rule, [rule], play(rule, 2, [[1]]),
-        InvalidRow("mode"), NoRow(3), [("run", "all", "on", "run")],
+        InvalidRow("mode"), NoRow(3), [("run", "all", "on", "run")], Line(rule, 2), Desk(), [Line(rule, 1)],
+        Line(rule, 2).trial(),
     ]
 
 

@@ -160,3 +160,97 @@ def random_rules(count, seed):
             rows.append(Row(mode, pick, chance.choice(("on", "on", "on", "home")), chance.choice(modes)))
         rules.append(Rule("a", rows[:12]))
     return rules
+
+
+def slow_parting(p, q, askers, starts):
+    """The fewest rounds from some pairs of states to one in which two rules grant unlike, or None."""
+    ahead = {start: 0 for start in starts}
+    pairs = list(starts)
+    for mine, other in pairs:
+        for asking in all_rounds(askers):
+            granted, _, *state = slow_round(p, askers, *mine, asking)
+            others, _, *other_state = slow_round(q, askers, *other, asking)
+            if granted != others:
+                return ahead[(mine, other)] + 1
+            behind = (tuple(state), tuple(other_state))
+            if behind not in ahead:
+                ahead[behind] = ahead[(mine, other)] + 1
+                pairs.append(behind)
+    return None
+
+
+def slow_kin(rule, askers):
+    """The classes of those modes that grant alike in lines of up to so many askers."""
+    classes = []
+    for mode in rule.modes:
+        for mates in classes:
+            if all(slow_parting(rule, rule, many, [((mode, pointer), (mates[0], pointer))]) is None
+                   for many in range(1, askers + 1) for pointer in (None, *range(many))):
+                mates.append(mode)
+                break
+        else:
+            classes.append([mode])
+    return tuple(tuple(mates) for mates in classes)
+
+
+class SlowLevels:
+    """All states of a rule for groups, and of the rules of all groups, each with all rounds that can follow.
+
+    A state is a tuple of pairs of mode and pointer: that of the top rule, then those of the groups. The rounds are
+    given as tuples of numbers of pairs.
+    """
+
+    def __init__(self, top, leaf, groups, size, rounds):
+        self.top = top
+        self.leaf = leaf
+        self.groups = groups
+        self.size = size
+        self.pairs = list(product(range(groups), range(size)))
+        start = ((top.first, None),) + ((leaf.first, None),) * groups
+        self.links = {}
+        left = [start]
+        for state in left:
+            if state not in self.links:
+                self.links[state] = []
+                for picked in rounds:
+                    asking = [self.pairs[at] for at in picked]
+                    granted, behind = self.turn(state, asking)
+                    self.links[state].append((asking, granted, behind))
+                    left.append(behind)
+
+    def turn(self, state, asking):
+        """Who is granted in a round, and the state behind it."""
+        states = list(state)
+        groups, _, mode, pointer = slow_round(self.top, self.groups, *state[0], [group for group, _ in asking])
+        states[0] = (mode, pointer)
+        granted = []
+        for group in sorted(groups):
+            there = [place for other, place in asking if other == group]
+            places, _, mode, pointer = slow_round(self.leaf, self.size, *state[1 + group], there)
+            states[1 + group] = (mode, pointer)
+            granted += [(group, place) for place in sorted(places)]
+        return tuple(granted), tuple(states)
+
+    def play(self, rounds):
+        """What is granted in each of some rounds."""
+        state = ((self.top.first, None),) + ((self.leaf.first, None),) * self.groups
+        grants = []
+        for asking in rounds:
+            granted, state = self.turn(state, asking)
+            grants.append(granted)
+        return tuple(grants)
+
+    def waits(self):
+        """The greatest number of rounds in which one asker asks in vain, or None."""
+        found = [self.waits_of(pair) for pair in self.pairs]
+        return None if None in found else max(found)
+
+    def waits_of(self, pair):
+        vain = {state: {behind for asking, granted, behind in links if pair in asking and pair not in granted}
+                for state, links in self.links.items()}
+        left = set(vain)
+        for rounds in range(len(vain) + 1):
+            left = {state for state in left if vain[state] & left}
+            if not left:
+                return rounds
+        return None

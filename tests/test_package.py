@@ -25,6 +25,10 @@ class PackageTest(unittest.TestCase):
             "deciding": ["happens", "least", "faults", "history", "ring", "ring_holds"],
             "waiting": ["waits", "longest", "growth", "least_worse"],
             "papers": ["paper", "paper_holds"],
+            "comparing": ["alike", "least_parting", "needless", "kin", "merged"],
+            "levels": ["play_levels", "levels"],
+            "line": ["Line"],
+            "desk": ["Desk"],
         }
         for module, names in wanted.items():
             tree = ast.parse((FOLDER / (module + ".py")).read_text())
@@ -37,6 +41,9 @@ class PackageTest(unittest.TestCase):
             ("rows", "Row"): ["__init__", "__eq__", "__str__"],
             ("rules", "Rule"): ["__init__", "__call__", "__len__", "__getitem__", "__add__", "__eq__", "__str__",
                                 "without", "renamed", "read"],
+            ("line", "Line"): ["__init__", "__len__", "__iadd__", "rounds", "ask", "several", "change", "undo", "trial",
+                               "within"],
+            ("desk", "Desk"): ["__init__", "say"],
         }
         for (module, name), methods in wanted.items():
             tree = ast.parse((FOLDER / (module + ".py")).read_text())

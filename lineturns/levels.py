@@ -64,8 +64,8 @@ def play_leaf(leaf, state, places):
 def wait_in_group(outer, inner, group):
     """The greatest number of rounds in which one asker of a group asks in vain, or None.
 
-    What other groups do with their rounds changes nothing in this one. So a pair of a state of the top rule and a state
-    of the group's leaf rule tells all.
+    What the leaf rules of other groups do changes nothing here. So a pair of a state of the top rule and a state of the
+    group's own leaf rule tells all.
     """
     passed = {state: states_behind_watched(outer, group, state, False) for state in outer.before}
     granted = {state: states_behind_watched(outer, group, state, True) for state in outer.before}

@@ -238,6 +238,24 @@ class LeastPartingTest(ComparingCase):
         self.assertGreaterEqual(told[0], 3)
         self.assertEqual(self.parted(p, q), 4)
 
+    def test_one_pointer_stays_behind(self):
+        # By the one rule the pointer stays where both were at first; by the other one it goes on twice.
+        for still, step in (("all stay", "all on"), ("all stay", "all home")):
+            p = Rule.read(f"first a\na all on b\nb {still} c\nc {still} d\nd keep on d")
+            q = Rule.read(f"first a\na all on b\nb {step} c\nc {step} d")
+            self.assertEqual((self.parted(p, q), self.parted(q, p)), (4, 4))
+
+    def test_pointers_far_in_the_line(self):
+        names = "abcdefghijklmnopqr"
+        for many in range(2, 16):
+            climb = [Row(mode, "past", "on", then) for mode, then in zip(names[:many], names[1:])]
+            for last in ("at", "keep", "past"):
+                ends = [[Row(names[many], "past", move, "y"), Row("y", last, "on", "z")] for move in ("stay", "on")]
+                p, q = [Rule("a", climb + end) for end in ends]
+                for told in (least_parting(p, q), least_parting(q, p)):
+                    self.assertEqual((len(told[1]), told[0] >= many), (many + 2, True))
+                    self.shown(p, q, told)
+
     def test_the_rounds_are_not_longer_than_needed_by_the_slow_way(self):
         chance = random.Random(24)
         for rule in random_rules(40, 24):

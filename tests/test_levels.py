@@ -124,6 +124,14 @@ class PlayLevelsTest(unittest.TestCase):
                 rounds = rounds_by_chance(chance, groups, size, 12)
                 self.assertEqual(play_levels(top, leaf, groups, size, rounds), slow.play(rounds))
 
+    def test_more_groups_and_askers(self):
+        chance = random.Random(45)
+        for top, leaf in product([Rule.read(text) for text in (FAIR, FULL, FIXED)], repeat=2):
+            for groups, size in ((20, 2), (2, 20)):
+                rounds = [chance.sample(pairs_of(groups, size), 3) for _ in range(30)]
+                self.assertEqual(play_levels(top, leaf, groups, size, rounds),
+                                 SlowLevels(top, leaf, groups, size, ()).play(rounds))
+
     def test_eight_groups_of_eight(self):
         chance = random.Random(42)
         rules = [Rule.read(text) for text in (FULL, FAIR, DOUBLE, BOTH, STAIRS)]
@@ -232,11 +240,25 @@ class LevelsTest(unittest.TestCase):
         slow = SlowLevels(top, leaf, groups, size, all_rounds(groups * size))
         self.assertEqual(levels(top, leaf, groups, size), slow.waits(), (str(top), str(leaf), groups, size))
 
+    def test_waits_at_the_beginning_alone(self):
+        # Later on the rule is fair.
+        late = Rule.read("first a\na all on b\nb all on c\nc all on d\nd past on d\nd all on d")
+        fair = Rule.read(FAIR)
+        self.assertEqual([levels(fair, late, 1, size) for size in (1, 2, 5)], [0, 3, 6])
+        self.assertEqual([levels(late, fair, groups, 1) for groups in (1, 2, 5)], [0, 3, 6])
+        for top, leaf in ((late, fair), (fair, late), (late, late)):
+            for groups, size in ((2, 2), (1, 3), (3, 1)):
+                self.same(top, leaf, groups, size)
+
     def test_what_comes_about_in_both_together(self):
-        # The group is granted a second time only behind a round in which it was not; by then it has begun.
-        top = Rule.read("first a\na all on b\nb past on a\nb under on a\nb all home a")
-        leaf = Rule.read("first a\na all on b\nb past on a\nb all on c\nc keep home a\nc all on a")
-        for groups, size in ((1, 2), (2, 1), (2, 2), (1, 3)):
+        once = "first b\na past on a\na all on a\nb past home a\nb all on b"
+        # The group is granted only if somebody in it asks, and then its rule does something.
+        turns = "first a\na past home b\na all on b\nb past on b\nb all on b"
+        home = "first run\nrun past on run\nrun all home run"
+        for top, leaf, groups, size, rounds in ((once, FAIR, 2, 2, 4), (FAIR, once, 1, 2, 2), (once, FAIR, 2, 1, 2),
+                                                (home, turns, 2, 2, 7), (home, turns, 1, 2, 2)):
+            top, leaf = Rule.read(top), Rule.read(leaf)
+            self.assertEqual(levels(top, leaf, groups, size), rounds)
             self.same(top, leaf, groups, size)
 
     def test_more_askers_wait_no_less(self):
